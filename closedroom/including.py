@@ -44,16 +44,17 @@ def trouble_of(name, parts, within, followed):
     return 0
 
 
-def failure_of(trouble, name):
+def failure_of(trouble, name, read):
     if trouble == UNDECLARED:
-        return failed_undeclared(name)
-    return failed(trouble)
+        return failed_undeclared(name, read)
+    return failed(trouble, read)
 
 
 def included(names, data):
     parts = parts_by_name(names, data)
     within = [names[0]]
     places = [0]
+    read = [names[0]]
     followed = 0
     text = []
     while within:
@@ -67,8 +68,10 @@ def included(names, data):
             continue
         trouble = trouble_of(name, parts, within, followed)
         if trouble != 0:
-            return failure_of(trouble, name)
+            return failure_of(trouble, name, read)
         within.append(name)
         places.append(0)
+        if name not in read:
+            read.append(name)
         followed += 1
-    return made([text])
+    return made([text], read)

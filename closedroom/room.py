@@ -1,6 +1,8 @@
 """The calls on one new room, handed over and answered as one list of whole numbers."""
 
-from closedroom.calls import get_file, maker_of, put_file, run_action, set_action, would_make
+from closedroom.acting import list_clashes, set_action
+from closedroom.filing import forget_file, get_file, list_files, maker_of, put_file
+from closedroom.running import key_of, list_reads, list_vain, run_action, would_make
 from closedroom.store import Room
 
 PUT = 0
@@ -9,6 +11,12 @@ RUN = 2
 WOULD = 3
 GET = 4
 MAKER = 5
+READS = 6
+VAIN = 7
+FORGET = 8
+CLASHES = 9
+KEY = 10
+FILES = 11
 
 
 class UnknownCall(ValueError):
@@ -64,6 +72,18 @@ def answer_call(room, reader):
         return get_file(room, reader.take_row())
     if call == MAKER:
         return maker_of(room, reader.take_row())
+    if call == READS:
+        return list_reads(room, reader.take_row())
+    if call == VAIN:
+        return list_vain(room, reader.take_row())
+    if call == FORGET:
+        return forget_file(room, reader.take_row())
+    if call == CLASHES:
+        return list_clashes(room)
+    if call == KEY:
+        return key_of(room, reader.take_row())
+    if call == FILES:
+        return list_files(room)
     raise UnknownCall(call)
 
 

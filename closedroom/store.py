@@ -20,3 +20,11 @@ class Room:
     def __init__(self):
         self.files = {}
         self.actions = {}
+
+
+def new_or_not(name, held):
+    return 0 if name in held else 1
+
+
+def is_source(room, name):
+    return name in room.files and room.files[name].made_by is None

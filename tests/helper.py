@@ -52,6 +52,30 @@ def maker(name):
     return [5] + row(text(name))
 
 
+def reads(name):
+    return [6] + row(text(name))
+
+
+def vain(name):
+    return [7] + row(text(name))
+
+
+def forget(name):
+    return [8] + row(text(name))
+
+
+def clashes():
+    return [9]
+
+
+def key(name):
+    return [10] + row(text(name))
+
+
+def files():
+    return [11]
+
+
 def parted(numbers):
     parts = []
     place = 0
@@ -82,6 +106,11 @@ def told(words):
     return [0] + text(words)
 
 
+def listed(*names):
+    """An answer that is how many names there are, and then these in lines."""
+    return [len(names)] + text("".join(name + "\n" for name in names))
+
+
 def made(*outputs):
     """What would answers for these outputs."""
     return [0] + texts(outputs)
@@ -91,8 +120,12 @@ def failure(code, name=""):
     return [1, code] + text(name)
 
 
-def outcome(tool, arguments, files, outputs=("out",)):
+def declared(tool, arguments, pairs, outputs=("out",)):
+    """The calls that put these pairs of a name and bytes and tell the action act with them as inputs."""
+    calls = [put(name, data) for name, data in pairs]
+    return calls + [action(tool, "act", arguments, [name for name, data in pairs], outputs)]
+
+
+def outcome(tool, arguments, pairs, outputs=("out",)):
     """What would answers for an action whose inputs are these pairs of a name and bytes."""
-    calls = [put(name, data) for name, data in files]
-    calls.append(action(tool, "act", arguments, [name for name, data in files], outputs))
-    return last(*calls, would("act"))
+    return last(*declared(tool, arguments, pairs, outputs), would("act"))
